@@ -1,0 +1,1 @@
+"""Behindbeside: orders of tasks put together by behind and beside."""
