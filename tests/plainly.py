@@ -1,6 +1,7 @@
 """What the document says, told again in the plainest way, for comparing."""
 
-from itertools import permutations
+from functools import cache
+from itertools import combinations, permutations, product
 
 
 def followed(pairs):
@@ -89,3 +90,98 @@ def terms_over(tasks):
 def all_terms(many):
     """Return all terms of so many tasks, normal or not."""
     return [term for tasks in permutations(range(many)) for term in terms_over(tasks)]
+
+
+@cache
+def all_orders(many):
+    """Return the pairs of all orders of so many tasks."""
+    if many == 1:
+        return ((),)
+    new = many - 1
+    found = []
+    for pairs in all_orders(new):
+        for places in product(("ahead", "behind", "apart"), repeat=new):
+            more = [(task, new) for task in range(new) if places[task] == "ahead"]
+            more += [(new, task) for task in range(new) if places[task] == "behind"]
+            told = {*pairs, *more}
+            if followed(told) == told and not any((b, a) in told for a, b in told):
+                found.append(tuple(sorted(told)))
+    return tuple(found)
+
+
+@cache
+def orders_of_terms(many):
+    """Return the pairs of all orders of terms of so many tasks: of those in which no four tasks stand in an N."""
+    return tuple(pairs for pairs in all_orders(many) if not fours(many, pairs))
+
+
+def stand_in_n(pairs, four):
+    """Tell whether four tasks stand in an N as told: these pairs, and no other ones, tie them."""
+    a, b, c, d = four
+    if (a, c) not in pairs or len({a, b, c, d}) < 4:
+        return False
+    return {(x, y) for x in four for y in four if (x, y) in pairs} == {(a, c), (b, c), (b, d)}
+
+
+def fours(many, pairs):
+    """Return all four tasks that stand in an N, ascending."""
+    told = set(pairs)
+    return [(a, b, c, d) for a, b in permutations(range(many), 2)
+            for c in range(many) if (a, c) in told and (b, c) in told
+            for d in range(many) if stand_in_n(told, (a, b, c, d))]
+
+
+def lots(many):
+    """Return all lots of so many tasks."""
+    return [lot for size in range(1, many + 1) for lot in combinations(range(many), size)]
+
+
+def greatest_sets(tasks, pairs):
+    """Return the greatest sets of tasks that hang together."""
+    sets = [{task} for task in tasks]
+    for a, b in pairs:
+        if a in tasks and b in tasks:
+            one = next(kept for kept in sets if a in kept)
+            other = next(kept for kept in sets if b in kept)
+            if one is not other:
+                sets.remove(other)
+                one |= other
+    return sets
+
+
+def is_exchange(many, pairs, front, back):
+    """Tell whether two lots are an exchange on the order of a term, by the words of the document."""
+    both = {*front, *back}
+    if len(both) < len(front) + len(back):
+        return False
+    for other in set(range(many)) - both:
+        ahead = all((other, task) in pairs for task in both)
+        behind = all((task, other) in pairs for task in both)
+        tied = any((other, task) in pairs or (task, other) in pairs for task in both)
+        if not ahead and not behind and tied:
+            return False
+    sets = greatest_sets(both, pairs)
+    if len(sets) == 1:
+        return False
+    return all((a, b) in pairs for kept in sets for a in kept & set(front) for b in kept & set(back))
+
+
+def all_exchanges(many, pairs):
+    """Return all exchanges on the order of a term, ascending."""
+    told = set(pairs)
+    return [(front, back) for front in sorted(lots(many)) for back in sorted(lots(many))
+            if is_exchange(many, told, front, back)]
+
+
+def behind_exchange(pairs, front, back):
+    """Return the ascending tuple of pairs of the order behind an exchange."""
+    return tuple(sorted(followed([*pairs, *[(a, b) for a in front for b in back]])))
+
+
+def behind_all(many, pairs, exchanges):
+    """Return the pairs behind some exchanges, one after another, or None if one of them cannot be made."""
+    for front, back in exchanges:
+        if not is_exchange(many, set(pairs), front, back):
+            return None
+        pairs = behind_exchange(pairs, front, back)
+    return pairs

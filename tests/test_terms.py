@@ -8,34 +8,8 @@ from behindbeside.errors import BadTerm, TaskError
 from behindbeside.orders import Order
 from behindbeside.terms import is_term, normal, order_of
 from tests.plainly import all_terms, followed, is_normal, least, pairs_of_term
+from tests.samples import great_terms, leaning
 from tests.values import LONG, nested, other_kinds
-
-
-def leaning(words, many, left):
-    """Return a term nested as deep as can be, the words taken in turn."""
-    term = 0
-    for task in range(1, many):
-        word = words[task % len(words)]
-        term = (word, term, task) if left else (word, task, term)
-    return term
-
-
-def deep_terms():
-    choices = (("behind",), ("beside",), ("behind", "beside"), ("beside", "behind"), ("behind", "behind", "beside"))
-    return [leaning(words, 12, left) for words in choices for left in (True, False)]
-
-
-def great_terms():
-    """Terms of twelve tasks."""
-    return [
-        ("behind", *range(12)), ("beside", *range(12)), ("behind", *range(11, -1, -1)), ("beside", *range(11, -1, -1)),
-        ("behind", ("beside", 11, 0, 5), ("beside", ("behind", 10, 1), ("behind", 9, 2, 8)), 3, ("beside", 7, 4, 6)),
-        ("beside", ("behind", 11, 0, 5), ("behind", ("beside", 10, 1), ("beside", 9, 2, 8)), 3, ("behind", 7, 4, 6)),
-        ("beside", ("beside", ("beside", 11, 10), ("beside", 9, 8)), ("beside", ("beside", 7, 6), 5, ("beside", 4, 3)),
-         ("behind", 2, ("behind", 1, 0))),
-        ("behind", ("behind", ("behind", 4, 11), ("beside", 9, 8)), ("behind", ("beside", 7, 6), 5, ("behind", 10, 3)),
-         ("beside", 2, ("beside", 1, 0))),
-    ] + deep_terms()
 
 
 def wrong_items():
