@@ -185,3 +185,39 @@ def behind_all(many, pairs, exchanges):
             return None
         pairs = behind_exchange(pairs, front, back)
     return pairs
+
+
+def all_runs(many, pairs):
+    """Return all runs of an order, ascending."""
+    return [run for run in permutations(range(many)) if all(run.index(a) < run.index(b) for a, b in pairs)]
+
+
+def ways_to_run(many, pairs):
+    """Return how many runs an order has, also of many tasks."""
+    ahead = [{a for a, b in pairs if b == task} for task in range(many)]
+    # For each set of tasks that may be done first: in how many ways.
+    ways = {frozenset(): 1}
+    for _ in range(many):
+        more = {}
+        for done, count in ways.items():
+            for task in range(many):
+                if task not in done and ahead[task] <= done:
+                    more[done | {task}] = more.get(done | {task}, 0) + count
+        ways = more
+    return ways[frozenset(range(many))]
+
+
+def all_rows(many, pairs):
+    """Return all rows of an order."""
+    told = set(pairs)
+    found = last = [(task,) for task in range(many)]
+    while last:
+        last = [(*row, task) for row in last for task in range(many) if (row[-1], task) in told]
+        found = found + last
+    return found
+
+
+def wide_lots(many, pairs):
+    """Return all wide lots of an order."""
+    told = set(pairs)
+    return [lot for lot in lots(many) if not any((a, b) in told or (b, a) in told for a, b in combinations(lot, 2))]

@@ -40,6 +40,31 @@ def drawn_terms(seed, many, count):
     return [drawn_term(draw, range(many)) for _ in range(count)]
 
 
+def drawn_pairs(draw, many, chance):
+    """Return the pairs of a drawn order, of a term or not; the greater the chance, the fewer there are."""
+    tasks = draw.shuffled(range(many))
+    told = [(a, b) for at, a in enumerate(tasks) for b in tasks[at + 1:] if draw.below(chance) == 0]
+    return tuple(sorted(followed(told)))
+
+
+def drawn_orders(seed, many, count):
+    """Return the pairs of drawn orders of so many tasks, with many pairs and with few."""
+    draw = Draw(seed)
+    return [drawn_pairs(draw, many, 2 + at % 6) for at in range(count)]
+
+
+def great_orders():
+    """Return the pairs of some orders of twelve tasks."""
+    rows = [(a, b) for a in range(12) for b in range(a + 1, 12)]
+    return [
+        (), tuple(rows), tuple(sorted((b, a) for a, b in rows)), tuple((task, task + 6) for task in range(6)),
+        tuple((task, task + 1) for task in range(0, 12, 2)), tuple((a, b) for a in range(6) for b in range(6, 12)),
+        tuple((a, b) for a, b in rows if a // 2 < b // 2), tuple((a, b) for a, b in rows if a // 3 == b // 3),
+        tuple((a, b) for a in range(6) for b in range(6, 12) if b != a + 6), N, CROWN,
+        tuple(sorted([(task, task + 6) for task in range(6)] + [(task + 1, task + 6) for task in range(5)])),
+    ] + drawn_orders(7, 12, 12)
+
+
 def loosened(draw, term):
     """Return the term with some words "behind" changed to "beside"."""
     if isinstance(term, int):
