@@ -59,7 +59,7 @@ def tightest(many, told):
     A run of it is one of each order of which all told runs are runs: those have some of its pairs, and no others.
     """
     tasks = list(range(many))
-    pairs = [(one, other) for one in tasks for other in tasks if one != other and is_always_ahead(told, one, other)]
+    pairs = [(one, other) for one in tasks for other in tasks if is_always_ahead(told, one, other)]
     return Order(many, pairs)
 
 

@@ -24,15 +24,8 @@ def done(order, exchange):
 def walked(order, exchanges):
     """Return the order behind a list or tuple of exchanges, one after another."""
     refuse_four(order)
-    if not isinstance(exchanges, (list, tuple)):
-        raise BadExchange(None)
-    # Behind an exchange the order is that of a term again: it need not be asked for anew.
-    now = order
-    for place, exchange in enumerate(exchanges):
-        if not is_exchange(now, exchange):
-            raise BadExchange(place)
-        now = exchanged(now, exchange)
-    return now
+    made = orders_behind(order, exchanges)
+    return made[-1] if made else order
 
 
 def exchanges_of(order):
@@ -42,6 +35,21 @@ def exchanges_of(order):
         raise TooGreat(MOST_LISTED)
     found = [choice for choice in choices_of(order.many) if is_exchange(order, choice)]
     return tuple(sorted(found))
+
+
+def orders_behind(order, exchanges):
+    """Return the orders behind each exchange of a list or tuple, one after another, on the order of a term."""
+    if not isinstance(exchanges, (list, tuple)):
+        raise BadExchange(None)
+    # Behind an exchange the order is that of a term again: it need not be asked for anew.
+    made = []
+    last = order
+    for place, exchange in enumerate(exchanges):
+        if not is_exchange(last, exchange):
+            raise BadExchange(place)
+        last = exchanged(last, exchange)
+        made.append(last)
+    return made
 
 
 def is_exchange(order, value):

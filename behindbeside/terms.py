@@ -33,16 +33,20 @@ def has_parts(value):
 
 def order_of(term):
     """Return the order of a term."""
-    if not is_term(term):
-        raise BadTerm(term)
+    refuse_no_term(term)
     return Order(len(tasks_in(term)), pairs_in(term))
 
 
 def normal(term):
     """Return the normal term of the same order."""
-    if not is_term(term):
-        raise BadTerm(term)
+    refuse_no_term(term)
     return normal_part(term)
+
+
+def refuse_no_term(value):
+    """Raise BadTerm if a value is no term."""
+    if not is_term(value):
+        raise BadTerm(value)
 
 
 def tasks_in(term):

@@ -14,6 +14,15 @@ from tests.plainly import all_orders, all_runs, followed
 from tests.samples import CROWN, N, Draw, drawn_orders
 from tests.values import LONG, nested, no_numbers, other_kinds
 
+class EqualToAll:
+    """A class whose objects tell of all values that they are equal."""
+
+    def __eq__(self, other):
+        return True
+
+    __hash__ = None
+
+
 FUNCTIONS = (paper_of, lambda many, told: is_paper_of(many, told, None))
 
 
@@ -44,8 +53,8 @@ def no_told(many):
         (), run[:-1], run[1:], (*run, many), (*run, 0), run[:-1] + (many,), run[:-1] + (-1,), (*run[:-1], LONG),
         (*run[:-1], True), (False, *run[1:]), (*run[:-1], str(many - 1)), (*run[:-1], None), (*run[:-1], (many - 1,)),
         (*run[:-1], [many - 1]), list(run), [list(run)], set(run), {task: 0 for task in run}, range(many), bytes(run),
-        (run,), [run], nested(48, lambda x: (x,), run), nested(48, lambda x: [x], run), nested(48, lambda x: (*run, x), 0),
-        0, 1, many, -1, LONG, Order(many, []),
+        (run,), [run], nested(48, lambda x: (x,), run), nested(48, lambda x: [x], run),
+        nested(48, lambda x: (*run, x), 0), 0, 1, many, -1, LONG, Order(many, []),
     ] + other_kinds()
     if many > 1:
         wrong += [run[:-1] + (0,), (1, *run[1:]), (0,) * many, (many - 1,) * many]
@@ -255,12 +264,10 @@ class IsPaper(PaperTests):
             told = tuple(all_runs(many, pairs))
             self.assertIs(is_paper_of(many, told, ("order", pairs)), True)
             for place, (a, b) in enumerate(pairs):
-                rest = pairs[:place] + pairs[place + 1:]
-                for wrong in (rest, pairs + ((a, b),), pairs[:place] + ((a, b),) + pairs[place:], rest + ([a, b],),
-                              pairs[:place] + ([a, b],) + pairs[place + 1:], pairs[:place] + ((b, a),) + pairs[place + 1:],
-                              pairs[:place] + ((a, b, a),) + pairs[place + 1:], pairs[:place] + (a, b) + pairs[place + 1:],
-                              pairs[:place] + ((a,),) + pairs[place + 1:], pairs[:place] + (None,) + pairs[place + 1:]):
-                    self.refused(many, told, ("order", wrong))
+                for items in ((), ((a, b), (a, b)), ([a, b],), ((b, a),), ((a, b, a),), (a, b), ((a,),), ((),),
+                              (None,)):
+                    self.refused(many, told, ("order", pairs[:place] + items + pairs[place + 1:]))
+                self.refused(many, told, ("order", pairs + ((a, b),)))
             for pair in product(range(-1, many + 1), repeat=2):
                 if pair not in pairs:
                     self.refused(many, told, ("order", tuple(sorted([*pairs, pair]))))
@@ -326,6 +333,13 @@ class IsPaper(PaperTests):
         for many, told in ((1, ((0,),)), (3, ((0, 1, 2),)), (3, ((0, 1, 2), (2, 1, 0)))):
             for value in other_kinds() + [0, 1, LONG, -LONG, [], (), Order(many, [])]:
                 self.refused(many, told, value)
+
+    def test_values_that_are_equal_to_all(self):
+        wrong = EqualToAll()
+        for many, told, word, item in ((2, ((0, 1),), "order", ((0, 1),)),
+                                       (3, ((0, 1, 2), (2, 1, 0)), "run", (1, 0, 2))):
+            for value in (wrong, (wrong, item), (word, wrong), (word, (wrong, *item[1:])), (word, (*item[:-1], wrong))):
+                self.assertIs(is_paper_of(many, told, value), False)
 
     def test_values_nested_deep(self):
         for many, told in ((1, ((0,),)), (3, ((0, 1, 2),)), (3, ((0, 1, 2), (2, 1, 0)))):

@@ -98,7 +98,8 @@ class Runs(unittest.TestCase):
         self.assertEqual(list(runs(Order(2, []))), [(0, 1), (1, 0)])
         self.assertEqual(list(runs(Order(2, [(1, 0)]))), [(1, 0)])
         self.assertEqual(list(runs(Order(3, [(1, 0)]))), [(1, 0, 2), (1, 2, 0), (2, 1, 0)])
-        self.assertEqual(list(runs(Order(4, N))), [(0, 1, 2, 3), (0, 1, 3, 2), (1, 0, 2, 3), (1, 0, 3, 2), (1, 3, 0, 2)])
+        self.assertEqual(list(runs(Order(4, N))),
+                         [(0, 1, 2, 3), (0, 1, 3, 2), (1, 0, 2, 3), (1, 0, 3, 2), (1, 3, 0, 2)])
 
     def test_free_tasks(self):
         for many in range(1, 8):
@@ -352,7 +353,8 @@ class OtherValues(unittest.TestCase):
 
     def test_values_nested_deep(self):
         for order in (Order(1, []), Order(2, []), Order(4, N)):
-            for value in (nested(50, lambda x: [x], 0), nested(50, lambda x: (0, 1, 2, x, 3), 0), {0: nested(49, lambda x: (x,), 0)}):
+            for value in (nested(50, lambda x: [x], 0), nested(50, lambda x: (0, 1, 2, x, 3), 0),
+                          {0: nested(49, lambda x: (x,), 0)}):
                 self.assertIs(is_run(order, value), False)
                 self.refused(order, value, None)
         value = nested(50, lambda x: (x,), 0)
